@@ -158,8 +158,10 @@ func (r *Reader) Bytes(n int) []byte {
 		if len(left) < n {
 			return 0, api.ErrCodeShort
 		}
-		b = make([]byte, n)
-		copy(b, left)
+		if n > 0 { // of none nothing, not an empty list
+			b = make([]byte, n)
+			copy(b, left)
+		}
 		return n, api.OK
 	})
 	return b

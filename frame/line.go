@@ -27,7 +27,7 @@ func (l *Line) Feed(b []byte) ([][]byte, api.Errno) {
 		if len(l.waits) < end {
 			break
 		}
-		frames = append(frames, append([]byte{}, l.waits[:end]...))
+		frames = append(frames, append([]byte(nil), l.waits[:end]...))
 		l.waits = l.waits[end:]
 	}
 	return frames, api.OK

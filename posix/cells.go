@@ -69,7 +69,7 @@ func (t *Tree) Cells() []api.Cell {
 		n := t.nodes[no]
 		l = append(l, api.Cell{Object: no, At: -1, Data: n.own()})
 		for _, c := range n.chunks() {
-			l = append(l, api.Cell{Object: no, At: c.at, Data: append([]byte{}, c.data...)})
+			l = append(l, api.Cell{Object: no, At: c.at, Data: append([]byte(nil), c.data...)})
 		}
 	}
 	return l

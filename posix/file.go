@@ -52,7 +52,7 @@ func (t *Tree) Read(path string, at, many int) ([]byte, api.Errno) {
 	if at >= len(data) {
 		return nil, api.OK
 	}
-	return append([]byte{}, data[at:at+min(many, len(data)-at)]...), api.OK
+	return append([]byte(nil), data[at:at+min(many, len(data)-at)]...), api.OK
 }
 
 // Truncate gives a file another size.

@@ -72,7 +72,7 @@ func (p *part) records(name string) []api.Record {
 		for _, c := range cells {
 			node.Keep = append(node.Keep, c.At)
 			if changed(c) {
-				writes = append(writes, api.Record{Kind: api.RecWrite, Object: c.Object, At: c.At, Data: append([]byte{}, c.Data...)})
+				writes = append(writes, api.Record{Kind: api.RecWrite, Object: c.Object, At: c.At, Data: append([]byte(nil), c.Data...)})
 			}
 		}
 		l = append(append(l, node), writes...)

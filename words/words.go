@@ -76,7 +76,7 @@ func Ahead(x, y api.Cell) bool {
 func Copy(l []api.Cell) []api.Cell {
 	var out []api.Cell
 	for _, c := range l {
-		c.Data = append([]byte{}, c.Data...)
+		c.Data = append([]byte(nil), c.Data...)
 		out = append(out, c)
 	}
 	return out
