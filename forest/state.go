@@ -9,9 +9,9 @@ import (
 
 // copyOf is a dataset in memory of its own.
 func copyOf(d api.Dataset) api.Dataset {
-	d.Props = slices.Clone(d.Props)
-	d.Marks = slices.Clone(d.Marks)
-	d.Snaps = slices.Clone(d.Snaps)
+	d.Props = append([]api.Prop(nil), d.Props...)
+	d.Marks = append([]api.Mark(nil), d.Marks...)
+	d.Snaps = append([]api.Snap(nil), d.Snaps...)
 	for i := range d.Snaps {
 		d.Snaps[i].Cells = words.Copy(d.Snaps[i].Cells)
 	}
