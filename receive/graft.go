@@ -1,11 +1,11 @@
 package receive
 
 import (
+	"cmp"
 	"slices"
 
 	"undercroft/api"
 	"undercroft/forest"
-	"undercroft/words"
 )
 
 // graft is what was taken as parts of a forest; false, if one of them has no cells.
@@ -84,10 +84,7 @@ func lay(base []api.Cell, live []int, l []api.Record) ([]api.Cell, bool) {
 		out = append(out, c)
 	}
 	slices.SortFunc(out, func(x, y api.Cell) int {
-		if words.Ahead(x, y) {
-			return -1
-		}
-		return 1 // no two have one place
+		return cmp.Or(cmp.Compare(x.Object, y.Object), cmp.Compare(x.At, y.At))
 	})
 	for _, object := range live {
 		if has[object] == 0 || len(nodes[object]) > 0 && has[object] != len(nodes[object]) {
