@@ -56,7 +56,7 @@ func TestNew(t *testing.T) {
 		taken []api.Place
 		e     api.Errno
 	}{
-		{nil, nil, 1}, {[]int{1, 1, 1, 1, 1}, nil, 1}, {[]int{-1}, nil, 1}, {[]int{40961}, nil, 1}, {[]int{40960, 0}, nil, 0},
+		{nil, nil, 1}, {[]int{1, 1, 1, 1, 1}, nil, 1}, {[]int{1, 0, 1, 1}, []api.Place{at(3, 0, 1)}, 0}, {[]int{-1}, nil, 1}, {[]int{40961}, nil, 1}, {[]int{40960, 0}, nil, 0},
 		{[]int{9}, []api.Place{at(1, 0, 1)}, 1}, {[]int{9}, []api.Place{at(-1, 0, 1)}, 1}, {[]int{9}, []api.Place{at(0, 8, 2)}, 1}, {[]int{9}, []api.Place{at(0, 0, 0)}, 1}, {[]int{9}, []api.Place{at(0, -1, 2)}, 1},
 		{[]int{9}, []api.Place{at(0, math.MaxInt, math.MaxInt)}, 1}, {[]int{9}, []api.Place{at(0, 5, 2), at(0, 1, 1), at(0, 6, 1)}, 1}, {[]int{9}, []api.Place{at(0, 1, 1), at(0, 1, 1)}, 1}, {[]int{9, 9}, []api.Place{at(1, 5, 4), at(0, 1, 1), at(0, 2, 3), at(1, 1, 1)}, 0},
 	} {
@@ -64,7 +64,7 @@ func TestNew(t *testing.T) {
 		if e != c.e || (a == nil) != (e != api.OK) {
 			t.Error(i, e)
 		}
-		if i == 13 && !slices.Equal(a.Taken(), []api.Place{at(0, 1, 4), at(1, 1, 1), at(1, 5, 4)}) {
+		if i == 14 && !slices.Equal(a.Taken(), []api.Place{at(0, 1, 4), at(1, 1, 1), at(1, 5, 4)}) {
 			t.Error(a.Taken())
 		}
 	}

@@ -115,6 +115,12 @@ func TestReader(t *testing.T) {
 			t.Errorf("%d: %d %d", i, r.Done(), r.Left())
 		}
 	}
+	for i, does := range []func(*code.Reader) any{func(r *code.Reader) any { return r.Num(7) }, func(r *code.Reader) any { return r.Text(1) }, func(r *code.Reader) any { return string(r.Bytes(7)) }} {
+		r := code.NewReader([]byte("abcdef"))
+		if x := does(r); x != uint64(0) && x != "" || r.Left() != 6 {
+			t.Error(i, x, r.Left())
+		}
+	}
 	r := code.NewReader([]byte("abcdef"))
 	r.Num(9)
 	if r.Num(1) != 0 || len(r.Bytes(1)) != 0 || r.Text(9) != "" {

@@ -182,6 +182,49 @@ func TestLost(t *testing.T) {
 	reads(t, a, 0, 1, want)
 }
 
+// TestTurned looks at what Corrupt does to the platter, and to each write that waits.
+func TestTurned(t *testing.T) {
+	turned := func(b byte, mask []byte) []byte {
+		x := s(b)
+		for i, m := range mask {
+			x[i] ^= m
+		}
+		return x
+	}
+	p := disk.NewPower()
+	a, _ := disk.New(p, 2)
+	b, _ := disk.New(p, 2)
+	is(t, a.Write(0, s(1, 2)), api.OK)
+	is(t, a.Flush(), api.OK)
+	a.Write(0, s(3, 4))
+	b.Write(0, s(5, 6))
+	a.Write(0, s(7))
+	mask := bytes.Repeat([]byte{0x10}, api.Sector)
+	mask[0] = 0x20
+	is(t, a.Corrupt(0, mask), api.OK)
+	reads(t, a, 0, 2, append(turned(7, mask), s(4)...))
+	reads(t, b, 0, 2, s(5, 6))
+	p.Up([]bool{true, true, true, true, false})
+	reads(t, a, 0, 2, append(turned(3, mask), s(4)...))
+	reads(t, b, 0, 2, s(5, 6))
+	is(t, a.Corrupt(1, nil), api.OK)
+	is(t, a.Corrupt(0, mask), api.OK)
+	p.Up(nil)
+	reads(t, a, 0, 2, s(3, 4))
+	a.Write(1, s(9))
+	is(t, a.Corrupt(1, mask), api.OK)
+	p.Up(nil)
+	reads(t, a, 1, 1, turned(4, mask))
+	a.Replace()
+	reads(t, a, 0, 2, s(0, 0))
+	a.Write(0, s(1))
+	p.Up(nil)
+	reads(t, a, 0, 2, s(0, 0))
+	small, _ := disk.New(p, 1)
+	is(t, small.Write(0, s(1)), api.OK)
+	is(t, small.Flush(), api.OK)
+}
+
 // TestModel holds disks against all that a sector may be behind a crash.
 func TestModel(t *testing.T) {
 	r := rand.New(rand.NewSource(3))

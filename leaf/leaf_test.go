@@ -156,6 +156,14 @@ func TestData(t *testing.T) {
 	if y, e := leaf.Open(d); e != api.OK || y.Size() != 32 {
 		t.Error(e)
 	}
+	d.Write(274+5, s(8))
+	if b, e := x.Read(5, 1); e != api.OK || !bytes.Equal(b, s(8)) {
+		t.Error("read elsewhere", e)
+	}
+	is(t, x.Write(6, s(9)), api.OK)
+	if b, _ := d.Read(274+6, 1); !bytes.Equal(b, s(9)) {
+		t.Error("written elsewhere")
+	}
 	d.Fail()
 	if _, e := x.Read(99, 1); e != api.ErrDiskFailed {
 		t.Error(e)
@@ -237,6 +245,10 @@ func TestLog(t *testing.T) {
 	b := bytes.Repeat([]byte{1}, 88)
 	is(t, x.LogWrite(0, 7, b), api.OK)
 	is(t, x.LogWrite(255, 1<<48, b), api.OK)
+	is(t, x.LogWrite(9, 1, b), api.OK)
+	image, _ := d.Read(18, 1)
+	d.Write(17, image) // a log sector's likeness ahead of the log, and behind it
+	d.Write(274, image)
 	for _, c := range []struct {
 		at int
 		no uint64
@@ -247,7 +259,7 @@ func TestLog(t *testing.T) {
 	for _, c := range []struct {
 		at int
 		no uint64
-	}{{0, 7}, {255, 1 << 48}} {
+	}{{0, 7}, {255, 1 << 48}, {9, 1}} {
 		if no, got, ok := x.LogRead(c.at); no != c.no || !bytes.Equal(got, b) || !ok {
 			t.Error(c, no, ok)
 		}

@@ -219,6 +219,44 @@ func TestLacks(t *testing.T) {
 	}
 }
 
+// TestDown asks where the power is out, or goes out while a block is put right.
+func TestDown(t *testing.T) {
+	r := fresh(t, 2)
+	r.t.Write(3, []byte("ab"), 7)
+	r.t.Flush()
+	for i := range 2 {
+		r.turn(0, 3)
+		r.p.Cut(0)
+		if i == 0 {
+			if n, e := r.t.Scrub(3, 2, api.Fletcher4, of("ab")); n != 0 || e != api.ErrDown {
+				t.Error(n, e)
+			}
+		} else if b, e := r.t.Read(3, 2, api.Fletcher4, of("ab")); len(b) != 0 || e != api.ErrDown {
+			t.Error(e)
+		}
+		if b, e := r.t.Read(3, 2, api.Fletcher4, of("ab")); len(b) != 0 || e != api.ErrDown {
+			t.Error(e)
+		}
+		if n, e := r.t.Scrub(3, 2, api.Fletcher4, of("ab")); n != 0 || e != api.ErrDown {
+			t.Error(n, e)
+		}
+		r.p.Up(nil)
+		r.turn(0, 3)
+	}
+	one, e := mirror.New(r.l[:1]) // a single leaf
+	is(t, e, api.OK)
+	whole := make([]byte, 1024)
+	whole[1023] = 1
+	is(t, one.Write(24, whole, 1), api.OK)
+	if b, e := one.Read(24, 1024, api.Fletcher4, of(string(whole))); e != api.OK || !bytes.Equal(b, whole) {
+		t.Error(e)
+	}
+	r.turn(0, 31)
+	if _, e := one.Read(24, 1024, api.Fletcher4, of(string(whole))); e != api.ErrIO {
+		t.Error(e)
+	}
+}
+
 // TestDownBetween lets the power go out behind the first leaf of two.
 func TestDownBetween(t *testing.T) {
 	a, b := disk.NewPower(), disk.NewPower()

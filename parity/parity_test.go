@@ -278,3 +278,47 @@ func TestLacks(t *testing.T) {
 		t.Error("lacks what was broken off")
 	}
 }
+
+// TestDown lets the power go out while a block is put right; no more is written than is wrong.
+func TestDown(t *testing.T) {
+	b := some(9, 700)
+	for i := range 2 {
+		r := fresh(t, 3)
+		r.t.Write(0, b, 3)
+		r.t.Flush()
+		r.turn(1, 0)
+		before := r.p.Writes()
+		r.reads(t, 0, b)
+		if n := r.p.Writes() - before; n != 1 {
+			t.Error("written", n)
+		}
+		r.turn(1, 0)
+		before = r.p.Writes()
+		if n, e := r.t.Scrub(0, 700, api.Sha256, of(b)); n != 1 || e != api.OK || r.p.Writes()-before != 1 {
+			t.Error(n, e, r.p.Writes()-before)
+		}
+		r.turn(1, 0)
+		r.p.Cut(0)
+		if i == 0 {
+			if x, e := r.t.Read(0, 700, api.Sha256, of(b)); len(x) != 0 || e != api.ErrDown {
+				t.Error(e)
+			}
+		} else if n, e := r.t.Scrub(0, 700, api.Sha256, of(b)); n != 0 || e != api.ErrDown {
+			t.Error(n, e)
+		}
+		if n, e := r.t.Scrub(0, 700, api.Sha256, of(b)); n != 0 || e != api.ErrDown {
+			t.Error(n, e)
+		}
+	}
+	r := fresh(t, 3)
+	m, e := parity.New([]*leaf.Leaf{r.l[0], nil, r.l[2]})
+	is(t, e, api.OK)
+	is(t, m.Write(0, b, 3), api.OK)
+	if x, e := m.Read(0, 700, api.Sha256, of(b)); e != api.OK || !bytes.Equal(x, b) {
+		t.Error(e)
+	}
+	r.turn(0, 1)
+	if _, e := m.Read(0, 700, api.Sha256, of(b)); e != api.ErrIO {
+		t.Error(e)
+	}
+}

@@ -31,7 +31,7 @@ func TestPtr(t *testing.T) {
 		p  api.Ptr
 		ok bool
 	}{
-		{good, true}, {api.Ptr{}, true},
+		{good, true}, {api.Ptr{}, true}, {api.Ptr{Bytes: 1, Birth: 1, Kind: 1}, true},
 		{api.Ptr{Top: 3, At: 40959, Bytes: 1024, Birth: 1 << 48, Kind: 2, Sum: api.Sum{A: math.MaxUint64, D: 1}}, true},
 		{with(good, func(p *api.Ptr) { p.Top = 4 }), false}, {with(good, func(p *api.Ptr) { p.Top = -1 }), false},
 		{with(good, func(p *api.Ptr) { p.At = 40960 }), false}, {with(good, func(p *api.Ptr) { p.At = -1 }), false},
@@ -92,6 +92,7 @@ func TestLabel(t *testing.T) {
 		ok bool
 	}{
 		{label(0, 1, m2), true}, {label(0, 2, m2), false}, {label(0, -1, m2), false}, {label(1, 0, m2), false}, {label(-1, 0, m2), false},
+		{label(0, 4, api.Top{Kind: 2, Leaves: 5, Sectors: 324}), true}, {label(0, 2, api.Top{Kind: 3, Leaves: 3, Sectors: 324}), true}, {label(0, 0, api.Top{Kind: 3, Leaves: 6, Sectors: 324}), false},
 		{label(0, 0), false}, {label(3, 4, s1, m2, m2, p5), true}, {label(0, 0, s1, s1, s1, s1, s1), false}, {label(0, 0, s1, p5), true},
 		{label(0, 0, api.Top{Kind: 1, Leaves: 2, Sectors: 324}), false}, {label(0, 0, api.Top{Kind: 2, Leaves: 1, Sectors: 324}), false}, {label(0, 0, api.Top{Kind: 2, Leaves: 6, Sectors: 324}), false},
 		{label(0, 0, api.Top{Kind: 3, Leaves: 2, Sectors: 324}), false}, {label(0, 0, api.Top{Kind: 3, Leaves: 3, Sectors: 323}), false}, {label(0, 0, api.Top{Kind: 3, Leaves: 3, Sectors: 8193}), false},

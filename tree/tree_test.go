@@ -124,6 +124,9 @@ func TestSince(t *testing.T) {
 			t.Error(i, got)
 		}
 	}
+	if got := tree.Since(2049, []api.Ptr{born(1), born(1), {}, born(1)}, 0); !slices.Equal(got, []api.Span{{At: 0, Many: 2048}}) {
+		t.Error(got)
+	}
 	if got := tree.Since(10, []api.Ptr{{Birth: 3}}, 2); !slices.Equal(got, []api.Span{{At: 0, Many: 10}}) {
 		t.Error(got)
 	}

@@ -48,9 +48,24 @@ func (t *Tank) Mark(u api.Uber) api.Errno {
 	return api.OK
 }
 
+// out tells whether the power of any disk is out: failed disks say so, too.
+func (t *Tank) out() bool {
+	for _, m := range t.members {
+		for _, s := range m.spots {
+			if s.disk == nil {
+				continue
+			}
+			if _, e := s.disk.Read(0, 0); e == api.ErrDown { // asked past the leaf, which would count a fault
+				return true
+			}
+		}
+	}
+	return false
+}
+
 // Best is the uberblock of the last group that stands on any leaf.
 func (t *Tank) Best() (api.Uber, api.Errno) {
-	if t.down() { // a leaf would tell none
+	if t.out() { // a leaf would only tell none
 		return api.Uber{}, api.ErrDown
 	}
 	var best api.Uber

@@ -142,7 +142,7 @@ func TestImport(t *testing.T) {
 	junk := disks(p, 400)[0]
 	order := []*disk.Disk{nil, junk, d[4], d[2], d[2], strange[0], d[0], d[1], d[5], d[3]}
 	x, e := vdev.Import(order)
-	if e != api.OK || x.Pool() != 9 || !reflect.DeepEqual(x.Tops(), k.Tops()) {
+	if e != api.OK || x.Pool() != 9 || !reflect.DeepEqual(x.Tops(), []api.Top{{Kind: 1, Leaves: 1, Sectors: 324}, {Kind: 2, Leaves: 2, Sectors: 400}, {Kind: 3, Leaves: 3, Sectors: 350}}) {
 		t.Fatal(e)
 	}
 	if b, e := x.Best(); b != u || e != api.OK {
@@ -192,6 +192,50 @@ func TestImport(t *testing.T) {
 	}
 	is(t, k.Mark(u), api.ErrDown)
 	is(t, k.Flush(), api.ErrDown)
+}
+
+// TestStrangers hands disks of other pools in: with this number, with these tops.
+func TestStrangers(t *testing.T) {
+	p := disk.NewPower()
+	a, b, c := disks(p, 400, 400), disks(p, 400, 400), disks(p, 400, 400, 400)
+	vdev.Create(7, mirror2(), a)
+	vdev.Create(8, mirror2(), b)
+	vdev.Create(7, []api.Top{{Kind: api.Mirror, Leaves: 3, Sectors: 400}}, c)
+	k, e := vdev.Import([]*disk.Disk{a[1], b[0], c[0]})
+	is(t, e, api.OK)
+	is(t, k.Mark(api.Uber{Pool: 7, Txg: 4}), api.OK)
+	for i, d := range []*disk.Disk{a[0], a[1], b[0], c[0]} {
+		l, _ := leaf.Open(d)
+		if n := len(l.Ubers()); n != []int{0, 1, 0, 0}[i] {
+			t.Error(i, n)
+		}
+	}
+	// of one group the first leaf's uberblock is the best; of a log sector the one with the greatest number
+	k, _ = vdev.Import(a)
+	k.Flush()
+	k.Mark(api.Uber{Pool: 7, Txg: 5, Note: 1})
+	stay := make([]bool, 8)
+	for i := range 4 {
+		stay[i] = true
+	}
+	p.Up(stay)
+	k.Mark(api.Uber{Pool: 7, Txg: 5, Note: 2})
+	for i := range 4 {
+		stay[i], stay[4+i] = false, true
+	}
+	p.Up(stay)
+	k, _ = vdev.Import(a)
+	if u, e := k.Best(); u.Note != 1 || e != api.OK {
+		t.Error(u, e)
+	}
+	is(t, k.LogWrite(0, []byte{1}), api.OK)
+	k.Flush()
+	k.LogWrite(0, []byte{2})
+	p.Up([]bool{true}) // the first leaf alone
+	k, _ = vdev.Import(a)
+	if b, e := k.LogRead(0, 1); e != api.OK || b[0] != 2 {
+		t.Error(b, e)
+	}
 }
 
 func TestMark(t *testing.T) {
