@@ -210,6 +210,35 @@ func TestOpen(t *testing.T) {
 	bad("order", page("m\x02\x00\x01b\x00\x00\x00\x00\x01a"))
 	bad("twice", page("m\x02\x00\x01a\x00\x00\x00\x00\x01a"))
 	bad("beyond", page("m\xff\x00"+strings.Repeat("\x01a\x00\x00\x00\x00", 42)))
+	full := ""
+	for i := range 42 {
+		full += "\x01" + string([]byte{byte(i + 1)}) + "\x00\x00\x00\x00"
+	}
+	if d, e := dict.Open([][]byte{page("m\x2a\x00" + full)}); e != api.OK || d.Len() != 42 {
+		t.Error(e)
+	}
+	bad("an entry beyond the page", page("m\x2b\x00"+full+"\x01"))
+	full = full[:41*6] + "\x02zz\x00\x00\x00\x00"
+	if d, e := dict.Open([][]byte{page("m\x2a\x00" + full)}); e != api.OK || d.Len() != 42 {
+		t.Error(e)
+	}
+	bad("an entry behind the page", page("m\x2b\x00"+full))
+	bad("a long entry", page("m\x0a\x00"+full[:9*6]+strings.Repeat("\x18"+strings.Repeat("z", 24)+"\x00\x00\x00\x00", 6)+"\x18"+strings.Repeat("z", 23)))
+	for n := 20; n <= 24; n++ { // the last one ends behind the page
+		head := "m\x0a\x00"
+		for i := range 9 {
+			head += "\x15" + string([]byte{byte('a' + i)}) + strings.Repeat("x", 20) + "\x00\x00\x00\x00"
+		}
+		rest := 256 - len(head)
+		last := append([]byte{byte(n)}, bytes.Repeat([]byte("z"), rest-1)...)
+		for i := 1 + n; i < len(last); i++ {
+			last[i] = 0
+		}
+		d, e := dict.Open([][]byte{append([]byte(head), last[:rest]...)})
+		if fits := 1+n+4 <= rest; (e == api.OK) != fits || fits && d.Len() != 10 {
+			t.Error("the last entry", n, rest, e)
+		}
+	}
 	bad("a leaf alone", page("l"))
 	bad("a root alone", page("r\x00\x01"))
 	if d, e := dict.Open([][]byte{page("r\x00\x01"), page("l")}); e != api.OK || d.Len() != 0 {

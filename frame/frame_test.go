@@ -43,6 +43,12 @@ func TestForms(t *testing.T) {
 }
 
 func TestMayBe(t *testing.T) {
+	least := api.Request{Session: 1, ID: 1, Verb: 1}
+	if b, e := frame.Request(least); e != api.OK {
+		t.Error(e)
+	} else if r, e := frame.ReadRequest(b); e != api.OK || r.ID != 1 || r.Verb != 1 || r.Name != "" || len(r.Data) != 0 {
+		t.Error(r, e)
+	}
 	ok := api.Request{Session: 8, ID: 1 << 30, Verb: 255, Name: x240, Item: x240, Other: x240, Path: x240, At: 1 << 40, Many: 1 << 40, Data: make([]byte, 2048)}
 	for i, do := range []func(r *api.Request){
 		func(r *api.Request) {}, func(r *api.Request) { r.Session = 0 }, func(r *api.Request) { r.Session = 9 }, func(r *api.Request) { r.ID = 0 }, func(r *api.Request) { r.ID++ }, func(r *api.Request) { r.Verb = 0 }, func(r *api.Request) { r.Verb++ }, func(r *api.Request) { r.Name += "x" }, func(r *api.Request) { r.Item += "x" }, func(r *api.Request) { r.Other += "x" }, func(r *api.Request) { r.Path += "x" },

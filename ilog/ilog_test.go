@@ -155,6 +155,48 @@ func TestTorn(t *testing.T) {
 	}
 }
 
+// TestEnd has records that go on behind the region's end, or that are too long.
+func TestEnd(t *testing.T) {
+	l, _ := ilog.New(1)
+	region := make([]byte, api.LogSize)
+	for range 255 {
+		at, p, _ := l.Append(nil)
+		copy(region[at:], p)
+	}
+	other, _ := ilog.New(1)
+	for range 255 {
+		other.Append(nil)
+	}
+	_, p, _ := other.Append(nil)
+	p[14], p[16] = 2, 69 // the first one of two
+	copy(region[255*88:], p)
+	if s, r, e := ilog.Scan(1, region); e != api.OK || len(r) != 255 || s.At() != 255*88 {
+		t.Error(len(r), e)
+	}
+	clear(region)
+	l, _ = ilog.New(1)
+	_, p, _ = l.Append(bytes.Repeat([]byte{3}, 4096))
+	copy(region, p)
+	if _, r, e := ilog.Scan(1, region); e != api.OK || len(r) != 1 || len(r[0]) != 4096 {
+		t.Error(len(r), e)
+	}
+	for i := 0; i < len(p); i += 88 { // 4097 bytes, all else right
+		region[i+16] = 1
+	}
+	region[60*88+20+16] = 3
+	if _, r, _ := ilog.Scan(1, region); len(r) != 0 {
+		t.Error("a long record")
+	}
+	for _, n := range []byte{0xff, 0x7f} {
+		for i := range 4 {
+			region[16+i] = n
+		}
+		if _, r, e := ilog.Scan(1, region); len(r) != 0 || e != api.OK {
+			t.Error(e)
+		}
+	}
+}
+
 func TestStrict(t *testing.T) {
 	l, _ := ilog.New(3)
 	region := make([]byte, api.LogSize)

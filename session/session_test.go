@@ -56,6 +56,8 @@ func TestExample(t *testing.T) {
 	is(t, x.Keep(api.Reply{Session: 1, ID: 6, Text: "b"}), api.OK)
 	look(1, 5, "", false, api.ErrStale)
 	look(1, 6, "b", true, api.OK)
+	counts(t, x, 3, 3, 16)
+	counts(t, x.Clone(), 3, 3, 16)
 }
 
 func TestMemory(t *testing.T) {
