@@ -186,6 +186,76 @@ func TestDeep(t *testing.T) {
 	}
 }
 
+// begins are the parts' beginnings of a package.
+func begins(t *testing.T, f *forest.Forest, name, snap, base string) []string {
+	t.Helper()
+	l, e := send.Records(f, name, snap, base, true)
+	is(t, e, api.OK)
+	var got []string
+	for _, r := range l {
+		if r.Kind == api.RecBegin {
+			got = append(got, fmt.Sprintf("%s %s %d>%d %d", r.Name, r.Snap, r.From, r.Guid, r.Origin))
+		}
+	}
+	return got
+}
+
+// TestOrder has clones that stand ahead of their origins by names.
+func TestOrder(t *testing.T) {
+	f, _ := forest.New("tank", 1<<30, 0)
+	f.Create("tank/z", 1, []api.Cell{cell(1, 0, "z")})
+	f.Snapshot("tank/z", "o", false) // 1
+	f.Clone("tank/z", "o", "tank/a")
+	f.Create("tank/a/b", 1, nil)
+	f.Create("tank/c", 1, nil)
+	f.Snapshot("tank", "s", true) // 2 to 6: tank, tank/a, tank/a/b, tank/c, tank/z
+	if got, want := begins(t, f, "tank", "s", ""), []string{" s 0>2 0", "/c s 0>5 0", "/z o 0>1 0", "/z s 1>6 0", "/a s 1>3 1", "/a/b s 0>4 0"}; !slices.Equal(got, want) {
+		t.Error(got)
+	}
+	if got, want := begins(t, f, "tank/a", "s", ""), []string{" s 0>3 0", "/b s 0>4 0"}; !slices.Equal(got, want) {
+		t.Error(got)
+	}
+	f.Snapshot("tank", "t", true)                                                                                                                                 // 7 to 11
+	if got, want := begins(t, f, "tank", "t", "@s"), []string{" t 2>7 0", "/c t 5>10 0", "/z t 6>11 0", "/a t 3>8 0", "/a/b t 4>9 0"}; !slices.Equal(got, want) { // with a base all are from it
+		t.Error(got)
+	}
+	// a clone above its origin: each waits for the other one
+	f, _ = forest.New("tank", 1<<30, 0)
+	f.Create("tank/x", 1, []api.Cell{cell(1, 0, "x")})
+	f.Snapshot("tank/x", "o", false) // 1
+	f.Clone("tank/x", "o", "tank/a")
+	f.Rename("tank/x", "tank/a/x")
+	f.Snapshot("tank", "s", true) // 2 to 4
+	if got, want := begins(t, f, "tank", "s", ""), []string{" s 0>2 0", "/a s 0>3 0", "/a/x o 0>1 0", "/a/x s 1>4 0"}; !slices.Equal(got, want) {
+		t.Error(got)
+	}
+	// the origin is a later snapshot than the one that is sent
+	f, _ = forest.New("tank", 1<<30, 0)
+	f.Create("tank/d", 1, nil)
+	f.Snapshot("tank/d", "s", false) // 1
+	f.Snapshot("tank/d", "late", false)
+	f.Clone("tank/d", "late", "tank/e")
+	f.Snapshot("tank/e", "s", false) // 3
+	f.Snapshot("tank", "s", false)   // 4
+	if got, want := begins(t, f, "tank", "s", ""), []string{" s 0>4 0", "/d s 0>1 0", "/e s 0>3 0"}; !slices.Equal(got, want) {
+		t.Error(got)
+	}
+}
+
+// TestBirths has cells that are as old as the snapshot that they are sent from, or as the forest.
+func TestBirths(t *testing.T) {
+	f, _ := forest.New("tank", 1<<30, 0)
+	is(t, f.Graft([]api.Part{{Name: "tank/g", Kind: 1, New: true, Snap: "s", Guid: 1 << 30, Cells: []api.Cell{cell(1, 0, "a"), cell(2, 0, "b")}}}), api.OK)
+	f.Change("tank/g", []api.Cell{cell(1, 0, "a"), cell(2, 0, "c")})
+	f.Snapshot("tank/g", "t", false)
+	tells(t, f, "tank/g", "t", "@s", false, "package t 1", `begin "" 1 1073741824>1 0 t 0`, "live [1 2]", "node 2 [0]", "write 2 0 c", "end 5", "done 7")
+	g := f.State()
+	g.Datasets[1].Snaps[0].Cells[0].Birth = 0
+	f, e := forest.Load(g)
+	is(t, e, api.OK)
+	tells(t, f, "tank/g", "s", "", false, "package s 1", `begin "" 1 0>1073741824 0 s 0`, "live [1 2]", "node 1 [0]", "write 1 0 a", "node 2 [0]", "write 2 0 b", "end 7", "done 9")
+}
+
 func TestRest(t *testing.T) {
 	f := fresh(t)
 	b, _ := send.Stream(f, "tank/a", "t", "", true)
@@ -216,6 +286,11 @@ func TestRest(t *testing.T) {
 		r[0] = 9
 		if b[0] == 9 {
 			t.Error("shared")
+		}
+	}
+	for _, x := range []api.Token{{Bytes: -1}, {Records: -1}, {Bytes: len(b) + 1}, {Bytes: 1 << 62, Records: 1 << 62}} {
+		if r, e := send.Rest(b, x); len(r) != 0 || e != api.ErrToken {
+			t.Error(x, e)
 		}
 	}
 	if _, e := send.Rest(b[1:], api.Token{Records: 1, Bytes: 40}); e != api.ErrToken {
