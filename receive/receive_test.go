@@ -299,9 +299,19 @@ func TestBrings(t *testing.T) {
 			}
 			is(t, e, api.OK)
 			brought(t, f, g, "tank/a", "tank/copy", "s0", "s1")
-			if len(f.State().Datasets) > 0 && seed%4 == 0 {
-				e := carry("s1", "", true)
-				is(t, e, api.ErrExists)
+			is(t, carry("s1", "", true), api.ErrExists)
+			is(t, carry("s3", "@s1", true), api.ErrBase) // clones have no s1
+			g = fresh(t, 2)
+			is(t, carry("s3", "", true), api.OK)
+			brought(t, f, g, "tank/a", "tank/copy", "s0", "s1", "s2", "s3")
+			clones := 0
+			for _, d := range g.State().Datasets {
+				if d.Origin != 0 {
+					clones++
+				}
+			}
+			if clones != 2 {
+				t.Error("clones", clones)
 			}
 			continue
 		}
@@ -356,7 +366,7 @@ func TestMatch(t *testing.T) {
 	is(t, commit(inc...), api.ErrMatch)
 	all, _ := send.Records(f, "tank/a", "s", "", false)
 	is(t, commit(all...), api.OK)
-	pack, done := inc[0], inc[len(inc)-1]
+	pack := inc[0]
 	begin := inc[1]
 	live := func(l ...int) api.Record { return api.Record{Kind: 3, Keep: l} }
 	// an object that the base has not, and that does not come; a place of one likewise
@@ -366,11 +376,36 @@ func TestMatch(t *testing.T) {
 	if l, _ := g.Content("tank/x", "t"); len(l) != 2 || l[0].At != 1 || l[1].Object != 2 {
 		t.Error(l)
 	}
-	if done.Kind != 7 {
-		t.Error(done)
+	// a clone of what comes with it, and of what is there already
+	of := api.Record{Kind: 2, Name: "/c", Type: 1, From: 77, Guid: 88, Origin: 1, Snap: "u"}
+	first := api.Record{Kind: 2, Name: "/o", Type: 1, Guid: 77, Snap: "o"}
+	three := []api.Record{live(1), {Kind: 4, Object: 1, Keep: []int{0}}, {Kind: 5, Object: 1, Data: []byte("q")}, {Kind: 6, Many: 5}}
+	l := append(append([]api.Record{{Kind: 1, Name: "u", Many: 2}, first}, three...), of, live(1), api.Record{Kind: 6, Many: 3}, api.Record{Kind: 7, Many: 10})
+	is(t, commit(l...), api.OK)
+	if d := g.State().Datasets; d[2].Name != "tank/x/c" || d[2].Origin != 77 || len(d[2].Cells) != 1 || d[2].Snaps[0].Guid != 88 {
+		t.Error(d)
 	}
+	of.Guid, of.Name = 99, "/d"
+	is(t, commit(api.Record{Kind: 1, Name: "u", Many: 1}, of, live(1), api.Record{Kind: 6, Many: 3}, api.Record{Kind: 7, Many: 5}), api.OK)
+	of.From, of.Guid = 5, 100
+	is(t, commit(api.Record{Kind: 1, Name: "u", Many: 1}, of, live(), api.Record{Kind: 6, Many: 3}, api.Record{Kind: 7, Many: 5}), api.ErrMatch)
+	// a node without a write of its place, of a single place
+	begin.From, begin.Guid, begin.Snap = begin.Guid, 101, "w"
+	is(t, commit(pack, begin, live(1, 2), api.Record{Kind: 4, Object: 2, Keep: []int{7}}, api.Record{Kind: 6, Many: 4}, api.Record{Kind: 7, Many: 6}), api.ErrMatch)
+	is(t, commit(pack, begin, live(1, 2), api.Record{Kind: 6, Many: 3}, api.Record{Kind: 7, Many: 5}), api.OK)
 	b := begin
 	b.Name = strings.Repeat("/a", 7)
 	b.From = 0
 	is(t, commit(pack, b, live(), api.Record{Kind: 6, Many: 3}, api.Record{Kind: 7, Many: 5}), api.ErrName)
+	// the stream may end elsewhere than it says
+	r := receiver(t, "tank/x")
+	is(t, r.Feed(bytesOf(t, pack, b, live(), api.Record{Kind: 6, Many: 3}, api.Record{Kind: 7, Many: 9})), api.ErrStream)
+	if tok := r.Token(); tok.Records != 4 || r.Whole() {
+		t.Error(tok)
+	}
+	x, _, _ := record.Encode(api.Record{Kind: 7, Many: 5}, r.Token().Sum)
+	is(t, r.Feed(x), api.OK)
+	if !r.Whole() {
+		t.Error("not whole")
+	}
 }

@@ -98,6 +98,11 @@ func TestNew(t *testing.T) {
 	} else if q, _, _ := r.Next(); q.ID != 1<<29 {
 		t.Error(q)
 	}
+	if r, e := replica.New(api.Job{Session: 1, First: 1}); e != api.OK {
+		t.Error(e)
+	} else if q, who, ok := r.Next(); !ok || who != 1 || q.Session != 1 || q.ID != 1 {
+		t.Error(q)
+	}
 	r := begun(t, false)
 	asks(t, r, 1, askTake)
 	r = begun(t, true)
@@ -124,7 +129,7 @@ func TestSteps(t *testing.T) {
 	}
 	says(r, api.Reply{Err: api.ErrExists})
 	asks(t, r, 1, askToken)
-	says(r, open(0))
+	says(r, api.Reply{})
 	asks(t, r, 0, askSend(0))
 	data := []byte("abc")
 	says(r, api.Reply{Data: data, Number: 99})
