@@ -172,6 +172,13 @@ func TestFiles(t *testing.T) {
 	x.Cells()[4].Data[0] = 9
 	reads(t, x, "/f", 0, 9, "ab")
 	full := bytes.Repeat([]byte{1}, 8192)
+	is(t, x.Write("/f", 0, full), api.OK)
+	if y, e := posix.Open(x.Cells()); e != api.OK {
+		t.Error(e)
+	} else {
+		reads(t, y, "/f", 0, 9000, string(full))
+	}
+	is(t, x.Truncate("/f", 2), api.OK)
 	for i := range 7 { // 7 * 33 cells, and 5 more: 236
 		is(t, x.Create(fmt.Sprint("/n", i), 0), api.OK)
 		is(t, x.Write(fmt.Sprint("/n", i), 0, full[:8192-i%2*256]), api.OK)
@@ -213,6 +220,7 @@ func TestLinkRemove(t *testing.T) {
 	is(t, x.Chmod("/d/h", 4096), api.ErrArg)
 	is(t, x.Chmod("/d/h", -1), api.ErrArg)
 	is(t, x.Chmod("/x", -1), api.ErrNoFile)
+	is(t, x.Chmod("/d/h", 4095), api.OK)
 	is(t, x.Chmod("/d/h", 7), api.OK)
 	is(t, x.Chmod("/", 0), api.OK)
 	stat(t, x, "/d/h", api.Stat{Node: 2, Kind: 2, Mode: 7, Links: 1})
