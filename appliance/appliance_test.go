@@ -197,7 +197,7 @@ func TestVerbs(t *testing.T) {
 		{q{Verb: 14, Name: "tank/d", Path: "/m", Many: 448}, a{}}, {q{Verb: 14, Name: "tank/d", Path: "/m"}, a{Err: 182}}, {q{Verb: 14, Name: "tank/v", Path: "/m"}, a{Err: 175}}, {q{Verb: 14, Name: "tank/x", Path: "/m"}, a{Err: 171}}, {q{Verb: 14, Name: "tank", Path: "/m"}, a{Err: 187}},
 		{q{Verb: 15, Name: "tank/d", Path: "/m/f", Many: 420}, a{}}, {q{Verb: 16, Name: "tank/d", Path: "/m/f", At: 2, Data: []byte("xyz")}, a{}}, {q{Verb: 16, Name: "tank/d", Path: "/m", Data: []byte("xyz")}, a{Err: 184}}, {q{Verb: 17, Name: "tank/d", Path: "/m/f", Many: 4}, a{}},
 		{q{Verb: 18, Name: "tank/d", Path: "/m/f", Other: "/g"}, a{}}, {q{Verb: 21, Name: "tank/d", Path: "/g", Many: 7}, a{}}, {q{Verb: 33, Name: "tank/d", Path: "/g", Many: 1 << 40}, a{Data: []byte("\x00\x00xy")}}, {q{Verb: 33, Name: "tank/d", Path: "/x"}, a{Err: 181}}, {q{Verb: 33, Name: "tank/v", Path: "/x"}, a{Err: 175}}, {q{Verb: 33, Name: "tank/v", Item: "s", Path: "/x"}, a{Err: 171}},
-		{q{Verb: 35, Name: "tank/d", Path: "/g"}, a{Number: 4, List: []string{"3", "2", "7", "2"}}}, {q{Verb: 35, Name: "tank/d", Path: "g"}, a{Err: 180}}, {q{Verb: 34, Name: "tank/d", Path: "/"}, a{List: []string{"g 3", "m 2"}}}, {q{Verb: 34, Name: "tank/d", Path: "/g"}, a{Err: 183}}, {q{Verb: 34, Name: "tank/d", Path: "/", Item: "s"}, a{Err: 171}},
+		{q{Verb: 35, Name: "tank/d", Path: "/g"}, a{Number: 4, List: []string{"3", "2", "7", "2"}}}, {q{Verb: 35, Name: "tank/d", Path: "g"}, a{Err: 180}}, {q{Verb: 35, Name: "tank/v", Path: "/g"}, a{Err: 175}}, {q{Verb: 35, Name: "tank/d", Path: "/no"}, a{Err: 181}}, {q{Verb: 36, Name: "tank/v", Many: 2048}, a{Err: 186}}, {q{Verb: 36, Name: "tank/x", Many: 1}, a{Err: 171}}, {q{Verb: 34, Name: "tank/d", Path: "/"}, a{List: []string{"g 3", "m 2"}}}, {q{Verb: 34, Name: "tank/d", Path: "/g"}, a{Err: 183}}, {q{Verb: 34, Name: "tank/d", Path: "/", Item: "s"}, a{Err: 171}},
 		{q{Verb: 19, Name: "tank/d", Path: "/g", Other: "/h"}, a{}}, {q{Verb: 20, Name: "tank/d", Path: "/h"}, a{}}, {q{Verb: 20, Name: "tank/d", Path: "/h"}, a{Err: 181}}, {q{Verb: 22, Name: "tank/v", At: 510, Data: []byte("ab")}, a{}}, {q{Verb: 22, Name: "tank/v", At: 511, Data: []byte("ab")}, a{Err: 186}}, {q{Verb: 22, Name: "tank/d"}, a{Err: 175}},
 		{q{Verb: 36, Name: "tank/v", At: 509, Many: 3}, a{Data: []byte("\x00ab")}}, {q{Verb: 36, Name: "tank/v", At: 509, Many: 4}, a{Err: 186}}, {q{Verb: 36, Name: "tank/v", Many: 2049}, a{Err: 2}}, {q{Verb: 36, Name: "tank/d", Many: 1}, a{Err: 175}}, {q{Verb: 23, Name: "tank/v", At: 511, Many: 1}, a{}}, {q{Verb: 36, Name: "tank/v", At: 510, Many: 2}, a{Data: []byte("a\x00")}},
 		{q{Verb: 4, Name: "tank", Item: "s", Many: 1}, a{}}, {q{Verb: 4, Name: "tank/d", Item: "t"}, a{}}, {q{Verb: 32, Name: "tank/d"}, a{List: []string{"s 3145730 13", "t 3145732 14"}}}, {q{Verb: 32, Name: "tank/x"}, a{Err: 171}}, {q{Verb: 32, Name: "tank/v"}, a{List: []string{"s 3145731 13"}}},
@@ -210,6 +210,72 @@ func TestVerbs(t *testing.T) {
 			t.Errorf("%d: %v: %v, not %v", i, c.q, got, c.a)
 		}
 	}
+}
+
+// TestLaid looks at all that a checkpoint must lay down.
+func TestLaid(t *testing.T) {
+	r := fresh(t, 4096)
+	if r.p.Waiting() != 0 {
+		t.Error("not flushed")
+	}
+	for _, q := range []api.Request{
+		{Verb: api.VerbCreate, Name: "tank/a"}, {Verb: api.VerbCreate, Name: "tank/v", Many: 512}, {Verb: api.VerbVolWrite, Name: "tank/v", At: 5, Data: []byte("vol")}, {Verb: api.VerbMakeFile, Name: "tank/a", Path: "/f", Many: 9}, {Verb: api.VerbWrite, Name: "tank/a", Path: "/f", At: 3, Data: []byte("data")},
+		{Verb: api.VerbSnapshot, Name: "tank", Item: "s", Many: 1}, {Verb: api.VerbSnapshot, Name: "tank/a", Item: "t"}, {Verb: api.VerbBookmark, Name: "tank/a", Item: "s", Other: "m1"}, {Verb: api.VerbBookmark, Name: "tank/a", Item: "t", Other: "m2"}, {Verb: api.VerbClone, Name: "tank/a", Item: "t", Other: "tank/c"},
+		{Verb: api.VerbSet, Name: "tank", Item: "zip", Other: "on"}, {Verb: api.VerbSet, Name: "tank/a", Item: "zap", Other: "off or so"}, {Verb: api.VerbQuota, Name: "tank/a", Many: 1 << 39}, {Verb: api.VerbReserve, Name: "tank/v", Many: 1 << 38}, {Verb: api.VerbTake, Name: "tank/t"}, {Verb: api.VerbTake, Name: "tank/u"},
+	} {
+		r.errs(0, q)
+	}
+	r.a.Ask(api.Request{Session: 8, ID: 1 << 30, Verb: api.VerbTake, Name: "tank/t"})
+	before := r.a.Machine()
+	is(t, r.a.Checkpoint(), api.OK)
+	for range 2 {
+		r.p.Up(nil)
+		is(t, r.again(), api.OK)
+		if m := r.a.Machine(); !reflect.DeepEqual(m, before) {
+			t.Errorf("%v, not\n%v", m, before)
+		}
+		if r.p.Waiting() != 0 {
+			t.Error("not flushed")
+		}
+	}
+	whole, e := r.st.Read(1, 0, 1<<20)
+	is(t, e, api.OK)
+	try := func(b []byte, want api.Errno) {
+		t.Helper()
+		r.st.Drop(1)
+		r.st.Write(1, 0, b)
+		is(t, r.st.Commit(r.st.Note()), api.OK)
+		if a, e := appliance.Open(r.st); e != want || (a == nil) != (e != api.OK) {
+			t.Error(e)
+		}
+	}
+	try(whole[:len(whole)-1], api.ErrState)
+	try(append(bytes.Clone(whole), 0), api.ErrState)
+	try(append([]byte("X"), whole[1:]...), api.ErrState)
+	try(nil, api.ErrState)
+	for i := 4; i < len(whole); i += 3 { // whatever stands there, it is answered
+		b := bytes.Clone(whole)
+		b[i] ^= 0xff
+		r.st.Drop(1)
+		r.st.Write(1, 0, b)
+		appliance.Open(r.st)
+	}
+	try(whole, api.OK)
+}
+
+// TestMany lists as many names as a reply may have, and one more.
+func TestMany(t *testing.T) {
+	r := fresh(t, 8192)
+	r.errs(0, api.Request{Verb: api.VerbCreate, Name: "tank/a"})
+	r.errs(0, api.Request{Verb: api.VerbMakeFile, Name: "tank/a", Path: "/000"})
+	for i := 1; i < 240; i++ {
+		r.errs(0, api.Request{Verb: api.VerbLink, Name: "tank/a", Path: "/000", Other: fmt.Sprintf("/%03d", i)})
+	}
+	if a := r.ask(api.Request{Verb: api.VerbList, Name: "tank/a", Path: "/"}); a.Err != api.OK || len(a.List) != 240 || a.List[239] != "239 2" {
+		t.Error(a.Err, len(a.List))
+	}
+	r.errs(0, api.Request{Verb: api.VerbLink, Name: "tank/a", Path: "/000", Other: "/x"})
+	r.errs(api.ErrLong, api.Request{Verb: api.VerbList, Name: "tank/a", Path: "/"})
 }
 
 // flow has a source, and streams from it.

@@ -44,6 +44,116 @@ func TestTrouble(t *testing.T) {
 	f.d[1].Fail()
 	is(t, f.a.Checkpoint(), api.ErrIO)
 	is(t, f.a.Checkpoint(), api.ErrState)
+	g := fresh(t, 4096) // the power goes out in the checkpoint that a full log makes
+	g.errs(0, api.Request{Verb: api.VerbCreate, Name: "tank/a"})
+	g.errs(0, api.Request{Verb: api.VerbMakeFile, Name: "tank/a", Path: "/f"})
+	w := api.Request{Verb: api.VerbWrite, Name: "tank/a", Path: "/f", Data: make([]byte, 2048)}
+	for logged, n := 0, 0; ; n++ {
+		logged = g.a.Machine().Logged
+		if 88*2+n*88*32 > api.LogSize-88*40 { // the next ones do not fit
+			g.p.Cut(75)
+		}
+		if a := g.ask(w); a.Err == api.ErrDown {
+			g.counts(logged, g.a.Flushed())
+			break
+		} else if a.Err != api.OK || n > 20 {
+			t.Fatal(a.Err, n)
+		}
+	}
+	if a := g.a.Ask(w); !reflect.DeepEqual(a, api.Reply{Err: api.ErrState}) {
+		t.Error(a)
+	}
+	g.p.Up(nil)
+	is(t, g.again(), api.OK)
+}
+
+// TestWiped opens where a record is not whole: nothing of it is there any more, whatever happens next.
+func TestWiped(t *testing.T) {
+	r := fresh(t, 4096)
+	r.errs(0, api.Request{Verb: api.VerbCreate, Name: "tank/a"})
+	r.errs(0, api.Request{Verb: api.VerbMakeFile, Name: "tank/a", Path: "/f", Item: "sync"})
+	r.errs(0, api.Request{Verb: api.VerbWrite, Name: "tank/a", Path: "/f", Data: bytes.Repeat([]byte{7}, 600)})
+	stay := make([]bool, r.p.Waiting())
+	for i := range stay {
+		stay[i] = i > 5 // its first pieces are lost
+	}
+	r.p.Up(stay)
+	is(t, r.again(), api.OK)
+	r.counts(2, 2)
+	r.p.Up(nil)
+	region, e := r.st.Tank().LogRead(0, api.LogSize)
+	if e != api.OK || bytes.Contains(region, []byte{7, 7, 7}) {
+		t.Error("it is there still", e)
+	}
+	for _, cut := range []int{0, 700, 1300} { // opening may come to trouble
+		r.p.Cut(cut)
+		if e := r.again(); e != api.ErrDown && e != api.OK {
+			t.Error(cut, e)
+		}
+		r.p.Up(nil)
+	}
+	is(t, r.again(), api.OK)
+	r.counts(2, 2)
+	p := pool(t, api.Mirror, 2, 2048)
+	p.p.Cut(256*2 + 5) // behind the wiping
+	if a, e := appliance.New(p.st, "tank", 3); a != nil || e != api.ErrDown {
+		t.Error(e)
+	}
+}
+
+// TestExact fills the machine to the last byte, with a take in it.
+func TestExact(t *testing.T) {
+	r := fresh(t, 2048)
+	limit := r.a.Machine().Cap
+	r.errs(0, api.Request{Verb: api.VerbCreate, Name: "tank/a"})
+	r.errs(0, api.Request{Verb: api.VerbTake, Name: "tank/take"})
+	_, b := flow(t)
+	r.ask(api.Request{Verb: api.VerbFeed, Name: "tank/take", Data: b[:5+int(b[1])+32]})
+	r.errs(0, api.Request{Verb: api.VerbSet, Name: "tank/a", Item: "prop", Other: "value"})
+	r.errs(0, api.Request{Verb: api.VerbSnapshot, Name: "tank", Item: "snap"})
+	r.errs(0, api.Request{Verb: api.VerbBookmark, Name: "tank", Item: "snap", Other: "mark"})
+	for _, p := range []string{"/0", "/1", "/2", "/3", "/x", "/y"} {
+		r.errs(0, api.Request{Verb: api.VerbMakeFile, Name: "tank/a", Path: p})
+	}
+	write := func(path string, at, many int) api.Errno {
+		return r.ask(api.Request{Verb: api.VerbWrite, Name: "tank/a", Path: path, At: at, Data: bytes.Repeat([]byte{1}, many)}).Err
+	}
+	is(t, write("/x", 0, 1), api.OK)
+	is(t, write("/y", 0, 1), api.OK)
+	left := func() int {
+		m := r.a.Machine()
+		n := 2048
+		for _, d := range m.Grove.Datasets {
+			n += 64 + len(d.Name)
+			for _, c := range d.Cells {
+				n += 16 + len(c.Data)
+			}
+		}
+		n += 8 + len("prop") + len("value") + 32 + len("snap") + 24 + len("mark")
+		for _, x := range m.Takes {
+			n += 16 + len(x.Saved)
+		}
+		return limit - n
+	}
+	for i := 0; left() >= 272; i++ {
+		is(t, write("/"+string(rune('0'+i/32)), i%32*256, 256), api.OK)
+	}
+	n := left()
+	if n > 255 {
+		is(t, write("/y", 1, 200), api.OK)
+		n -= 200
+	}
+	is(t, write("/x", 1, n+1), api.ErrNoSpace)
+	is(t, write("/x", 1, n), api.OK)
+	if left() != 0 {
+		t.Error(left())
+	}
+	is(t, r.a.Checkpoint(), api.OK)
+	is(t, r.again(), api.OK)
+	is(t, write("/x", 1+n, 1), api.ErrNoSpace)
+	r.errs(api.ErrNoSpace, api.Request{Verb: api.VerbTake, Name: "a"})
+	r.errs(0, api.Request{Verb: api.VerbDrop, Name: "tank/take"})
+	r.errs(0, api.Request{Verb: api.VerbTake, Name: "a"})
 }
 
 func TestDo(t *testing.T) {

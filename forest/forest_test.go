@@ -177,6 +177,20 @@ func TestDestroyRename(t *testing.T) {
 	}
 }
 
+func TestChange(t *testing.T) {
+	f, _ := forest.New("tank", 66, 0)
+	is(t, f.Change("x", []api.Cell{cell(0, 0, 1)}), api.ErrNone)
+	for _, l := range [][]api.Cell{{cell(0, 0, 1)}, {cell(1, 0, 0)}, {cell(1, 1, 1), cell(1, 0, 1)}} {
+		is(t, f.Change("tank", l), api.ErrArg)
+	}
+	is(t, f.Change("tank", []api.Cell{cell(1, 0, 1), cell(1, 1, 1)}), api.OK) // just the room
+	is(t, f.Change("tank", []api.Cell{cell(1, 0, 1), cell(1, 1, 2)}), api.ErrNoSpace)
+	is(t, f.Change("tank", []api.Cell{cell(1, 1, 1), cell(2, 0, 1)}), api.OK)
+	if l, _ := f.Content("tank", ""); len(l) != 2 || l[0].Birth != 1 || l[1].Birth != 2 {
+		t.Error(l)
+	}
+}
+
 func TestSnapshots(t *testing.T) {
 	f := fresh(t)
 	f.Create("tank/a", 1, []api.Cell{cell(1, 0, 1)})
@@ -427,6 +441,10 @@ func TestLoad(t *testing.T) {
 	f.Snapshot("tank/a", "t", false)
 	f.Bookmark("tank/a", "s", "m")
 	f.Clone("tank/a", "s", "tank/c")
+	var thirteen []api.Prop
+	for i := range 13 {
+		thirteen = append(thirteen, api.Prop{Name: fmt.Sprintf("p%02d", i), Value: "x"})
+	}
 	if l, e := forest.Load(f.State()); e != api.OK || !reflect.DeepEqual(l.State(), f.State()) {
 		t.Fatal(e)
 	}
@@ -447,6 +465,18 @@ func TestLoad(t *testing.T) {
 		{func(g *api.Grove) { g.Datasets[1].Snaps[0].Name = "t" }, false}, {func(g *api.Grove) { g.Datasets[1].Snaps[0].Name = "T" }, false}, {func(g *api.Grove) { g.Datasets[1].Snaps[1].Guid = 0 }, false}, {func(g *api.Grove) { g.Datasets[1].Snaps[1].Guid = guid + 1 }, false}, {func(g *api.Grove) { g.Datasets[1].Snaps[1].Guid = guid + 3 }, false}, {func(g *api.Grove) { g.Datasets[1].Snaps[1].Guid = guid + 1<<20 }, true},
 		{func(g *api.Grove) { g.Datasets[1].Snaps[1].Birth = -1 }, false}, {func(g *api.Grove) { g.Datasets[1].Snaps[1].Cells[0].Birth = 99 }, false}, {func(g *api.Grove) { g.Datasets[1].Cells[0].Birth = -1 }, false}, {func(g *api.Grove) { g.Datasets[1].Cells[0].Object = 0 }, false},
 		{func(g *api.Grove) { g.Datasets[2].Origin = 5 }, false}, {func(g *api.Grove) { g.Datasets[3].Origin = guid + 1 }, false}, {func(g *api.Grove) { g.Datasets[1].Origin = guid + 1 }, false}, {func(g *api.Grove) { g.Datasets[2].Snaps = []api.Snap{{Name: "z", Guid: 7}}; g.Datasets[1].Origin = 7 }, false}, {func(g *api.Grove) { g.Datasets[2].Snaps = []api.Snap{{Name: "z", Guid: 7}}; g.Datasets[0].Origin = 7 }, true},
+		{func(g *api.Grove) { g.Datasets[0].Name = "Tank" }, false}, {func(g *api.Grove) { g.Datasets = []api.Dataset{g.Datasets[0], {Name: "tank/x/y", Kind: 1}} }, false}, {func(g *api.Grove) { g.Datasets = []api.Dataset{{Name: "a/b", Kind: 1}} }, false}, {func(g *api.Grove) { g.Seed = 1<<20 - 1 }, true},
+		{func(g *api.Grove) { *g = api.Grove{Datasets: []api.Dataset{{Name: "a", Kind: 2}}} }, true}, {func(g *api.Grove) { g.Datasets[0].Props = thirteen }, false}, {func(g *api.Grove) { g.Datasets[0].Props = thirteen[:12] }, true},
+		{func(g *api.Grove) {
+			for _, p := range thirteen {
+				g.Datasets[0].Marks = append(g.Datasets[0].Marks, api.Mark{Name: p.Name, Guid: 1})
+			}
+		}, false},
+		{func(g *api.Grove) {
+			for i, p := range thirteen {
+				g.Datasets[0].Snaps = append(g.Datasets[0].Snaps, api.Snap{Name: p.Name, Guid: i + 1})
+			}
+		}, false},
 		{func(g *api.Grove) { g.Datasets[1].Quota = 32 }, false}, {func(g *api.Grove) { g.Datasets[1].Quota = 33 }, true}, {func(g *api.Grove) { g.Room = 32 }, false},
 	} {
 		g := f.State()
@@ -477,7 +507,7 @@ func TestGraft(t *testing.T) {
 		do   func(p *api.Part)
 		e    api.Errno
 	}{
-		{ok, func(p *api.Part) {}, 0}, {ok, func(p *api.Part) { p.Name = "x/" }, 170}, {ok, func(p *api.Part) { p.Snap = ""; p.Kind = 0 }, 170}, {ok, func(p *api.Part) { p.Props = []api.Prop{{Name: "P"}} }, 170},
+		{ok, func(p *api.Part) {}, 0}, {ok, func(p *api.Part) { p.Guid = 1 }, 0}, {ok, func(p *api.Part) { p.Guid = guid + 1 }, 172}, {ok, func(p *api.Part) { p.Name = "x/" }, 170}, {ok, func(p *api.Part) { p.Snap = ""; p.Kind = 0 }, 170}, {ok, func(p *api.Part) { p.Props = []api.Prop{{Name: "P"}} }, 170},
 		{ok, func(p *api.Part) { p.Kind = 0 }, 1}, {ok, func(p *api.Part) { p.Cells = []api.Cell{cell(0, 0, 1)} }, 1}, {ok, func(p *api.Part) { p.Guid = 0 }, 1}, {ok, func(p *api.Part) { p.Guid = 1<<41 + 1 }, 1}, {ok, func(p *api.Part) { p.Guid = guid + 2 }, 1}, {ok, func(p *api.Part) { p.Guid = guid + 1<<20 - 1 }, 1}, {ok, func(p *api.Part) { p.Guid = guid + 1<<20 }, 0}, {ok, func(p *api.Part) { p.Guid = guid }, 0},
 		{ok, func(p *api.Part) { p.Props = []api.Prop{{Name: "p"}} }, 1}, {ok, func(p *api.Part) { p.Props = []api.Prop{{Name: "p", Value: strings.Repeat("x", 65)}} }, 1}, {ok, func(p *api.Part) { p.Props = []api.Prop{{Name: "p", Value: "\x80"}} }, 1},
 		{ok, func(p *api.Part) { p.Guid = guid + 1; p.Name = "tank/a" }, 172}, {ok, func(p *api.Part) { p.Name = "tank/a" }, 172}, {ok, func(p *api.Part) { p.Name = "tank/x/y" }, 171}, {ok, func(p *api.Part) { p.Name = "tank/v/y" }, 175},

@@ -163,7 +163,7 @@ tank; logged 0; flushed 0
 
 func TestMake(t *testing.T) {
 	for _, c := range []struct{ line, tells string }{
-		{"make a single 1 2048 1", "ok 29696"}, {"make a mirror 6 99999 1", "error 1"}, {"make a mirror 2 99999 1", "error 1"}, {"make a mirror 0 99999 1", "error 80"}, {"make a mirror 1 2048 1", "error 80"}, {"make a single 2 2048 1", "error 80"}, {"make a parity 2 2048 1", "error 80"}, {"make a mirror 2 323 1", "error 80"},
+		{"make a single 1 2048 1", "ok 29696"}, {"make a mirror 6 99999 1", "error 1"}, {"make a mirror 6 2048 1", "error 1"}, {"make a mirror 5 2048 1", "ok 29696"}, {"make a mirror 2 99999 1", "error 1"}, {"make a mirror 0 99999 1", "error 80"}, {"make a mirror 1 2048 1", "error 80"}, {"make a single 2 2048 1", "error 80"}, {"make a parity 2 2048 1", "error 80"}, {"make a mirror 2 323 1", "error 80"},
 		{"make a mirror 2 600 1", "error 3"}, {"make a mirror 2 932 1", "error 3"}, {"make a mirror 2 964 1", "ok 4352"}, {"make a mirror 2 2048 1048576", "error 1"}, {"make a mirror 2 2048 1048575", "ok 29696"}, {"make a mirror 2 2048 999999999999999", "error 1"},
 	} {
 		if got := tells(t, c.line); got != c.tells+"\n" {
