@@ -4,6 +4,7 @@ import (
 	"bytes"
 	"math"
 	"math/rand"
+	"slices"
 	"testing"
 
 	"undercroft/api"
@@ -276,5 +277,99 @@ func TestResilverEnds(t *testing.T) {
 	}
 	if _, ok := r.s.Tank().Lacks(0, 0); ok {
 		t.Error("not whole")
+	}
+}
+
+// sorted are a store's blocks by their places, each once.
+func sorted(s *store.Store) []api.Ptr {
+	var l []api.Ptr
+	for o := range 113 {
+		l = append(l, s.Blocks(o)...)
+	}
+	slices.SortFunc(l, func(x, y api.Ptr) int { return (x.Top-y.Top)<<20 + x.At - y.At })
+	return slices.CompactFunc(l, func(x, y api.Ptr) bool { return x.Top == y.Top && x.At == y.At })
+}
+
+// TestCursor goes block by block, with the last object among them.
+func TestCursor(t *testing.T) {
+	r := fresh(t, m2, p3)
+	r.fill(t)
+	r.s.Write(112, 0, []byte("last"))
+	r.s.Commit(10)
+	all := sorted(r.s)
+	c := api.Cursor{}
+	for i, p := range all {
+		next, h, e := heal.Scrub(r.s, c, 1)
+		want := api.Cursor{Top: p.Top, At: p.At + 1}
+		if i == len(all)-1 {
+			want = api.Cursor{Done: true}
+		}
+		if next != want || h != (api.Healed{Blocks: 1}) || e != api.OK {
+			t.Fatal(i, next, want, h, e)
+		}
+		if _, h, _ := heal.Scrub(r.s, api.Cursor{Top: p.Top, At: p.At}, 999); h.Blocks != len(all)-i {
+			t.Fatal(i, h)
+		}
+		c = next
+	}
+}
+
+// TestLacked resilvers a leaf that lacks one group alone.
+func TestLacked(t *testing.T) {
+	r := fresh(t, api.Top{Kind: api.Mirror, Leaves: 2, Sectors: 4096})
+	r.fill(t)
+	r.d[0].Fail()
+	r.s.Write(3, 0, []byte("new"))
+	is(t, r.s.Commit(10), api.OK)
+	lacks, ok := r.s.Tank().Lacks(0, 0)
+	if !ok || lacks.From != r.s.Txg() || lacks.To != r.s.Txg() {
+		t.Fatal(lacks)
+	}
+	want := 0
+	for _, p := range sorted(r.s) {
+		if p.Birth == r.s.Txg() {
+			want++
+		}
+	}
+	c, h, e := heal.Resilver(r.s, 0, 0, api.Cursor{}, 999)
+	if !c.Done || h != (api.Healed{Blocks: want}) || e != api.OK {
+		t.Error(c, h, e, want)
+	}
+}
+
+// TestDown lets the power go out at each write of a resilvering.
+func TestDown(t *testing.T) {
+	r := fresh(t, api.Top{Kind: api.Mirror, Leaves: 2, Sectors: 4096})
+	r.fill(t)
+	want := r.content(t)
+	r.d[0].Replace()
+	is(t, r.s.Tank().Replace(0, 0, r.d[0], r.s.Txg()), api.OK)
+	downs := 0
+	for cut := 0; ; cut += 1 + cut/40 {
+		r.p.Cut(cut)
+		c, h, e := heal.Resilver(r.s, 0, 0, api.Cursor{}, 9999)
+		r.p.Cut(-1)
+		if e == api.OK {
+			if !c.Done {
+				t.Error(c)
+			}
+			break
+		}
+		downs++
+		if e != api.ErrDown || c != (api.Cursor{}) || h != (api.Healed{}) || r.p.On() {
+			t.Fatal(cut, c, h, e)
+		}
+		r.p.Up(nil)
+		r.d[0].Replace()
+		r.again(t, r.d)
+		is(t, r.s.Tank().Replace(0, 0, r.d[0], r.s.Txg()), api.OK)
+	}
+	if downs < 20 {
+		t.Error(downs)
+	}
+	r.p.Up(nil)
+	r.again(t, r.d[:1])
+	if !bytes.Equal(r.content(t), want) {
+		t.Error("not the same")
 	}
 }

@@ -44,18 +44,27 @@ func (t *Tree) find(names []string) (int, api.Errno) {
 	at, e := firstNode, api.OK
 walk:
 	for _, name := range names {
-		if t.nodes[at].kind != api.Dir {
+		next, ok := t.entry(at, name)
+		switch {
+		case t.nodes[at].kind != api.Dir:
 			e = api.ErrNotDir
 			break walk
-		}
-		next, ok := t.nodes[at].names.Get(name)
-		if !ok {
+		case !ok:
 			e = api.ErrNoFile
 			break walk
 		}
 		at = next
 	}
 	return at, e
+}
+
+// entry is the node that a name of a directory leads to.
+func (t *Tree) entry(up int, name string) (int, bool) {
+	n := t.nodes[up]
+	if n.kind != api.Dir {
+		return 0, false
+	}
+	return n.names.Get(name)
 }
 
 // findPath is the number of the node that a path leads to.
@@ -88,6 +97,6 @@ func (t *Tree) goes(names []string) (int, string, api.Errno) {
 
 // has tells whether a directory has a name.
 func (t *Tree) has(up int, name string) bool {
-	_, ok := t.nodes[up].names.Get(name)
+	_, ok := t.entry(up, name)
 	return ok
 }

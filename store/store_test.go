@@ -323,6 +323,97 @@ func TestBlocks(t *testing.T) {
 	reads(t, s, 1, 0, 9, "q")
 }
 
+func TestLastObject(t *testing.T) {
+	_, d, s := fresh(t, api.Mirror, 2, 2048)
+	is(t, s.Write(112, 0, []byte("last")), api.OK)
+	is(t, s.Write(1, 0, bytes.Repeat([]byte{9}, 3000)), api.OK)
+	is(t, s.Commit(1), api.OK)
+	if l := s.Blocks(112); len(l) < 1 || l[0].Bytes != 4 || l[0].Birth != 2 {
+		t.Error(l)
+	}
+	is(t, s.Truncate(1, 1025), api.OK)
+	is(t, s.Truncate(1, 2000), api.OK)
+	reads(t, s, 1, 1024, 9, "\x09\x00\x00\x00\x00\x00\x00\x00\x00")
+	reads(t, s, 1, 2000, 9, "")
+	reads(t, s, 1, 1999, 9, "\x00")
+	is(t, s.Drop(112), api.OK)
+	is(t, s.Write(111, 0, []byte("x")), api.OK)
+	is(t, s.Commit(2), api.OK)
+	s = again(t, d)
+	if !slices.Equal(s.Objects(), []int{1, 111}) {
+		t.Error(s.Objects())
+	}
+	reads(t, s, 1, 1024, 2, "\x09\x00")
+	for i := range 6 { // the table is another one each time, and the room goes round
+		o := 112 - i*16
+		is(t, s.Write(o, 0, bytes.Repeat([]byte{byte(o)}, 2000)), api.OK)
+		is(t, s.Commit(3), api.OK)
+		is(t, s.Drop(o), api.OK)
+		is(t, s.Commit(4), api.OK)
+		s = again(t, d)
+		reads(t, s, 1, 0, 1, "\x09")
+	}
+}
+
+// TestSettled opens where one disk alone has the last group's uberblock, or the last of the log; then that one is lost.
+func TestSettled(t *testing.T) {
+	for lost := range 2 {
+		p, d, s := fresh(t, api.Mirror, 2, 2048)
+		s.Write(1, 0, []byte("a"))
+		is(t, s.Commit(1), api.OK)
+		s.Write(1, 0, []byte("b"))
+		before := p.Writes()
+		is(t, s.Commit(2), api.OK)
+		writes := p.Writes() - before
+		p, d, s = fresh(t, api.Mirror, 2, 2048)
+		s.Write(1, 0, []byte("a"))
+		is(t, s.Commit(1), api.OK)
+		s.Write(1, 0, []byte("b"))
+		p.Cut(writes)
+		is(t, s.Commit(2), api.OK) // all of it is written and flushed
+		s.Write(1, 0, []byte("c"))
+		p.Cut(writes - 1)
+		is(t, s.Commit(3), api.ErrDown) // the last mark of the second disk is not
+		stay := make([]bool, p.Waiting())
+		if len(stay) != 7 {
+			t.Fatal(len(stay))
+		}
+		for i := range stay {
+			stay[i] = i == 4*lost // a single mark of one disk
+		}
+		p.Up(stay)
+		s = again(t, d)
+		if s.Note() != 3 {
+			t.Fatal(s.Note())
+		}
+		is(t, s.LogWrite(0, []byte("log")), api.OK)
+		p.Up([]bool{lost == 0, lost == 1})
+		s = again(t, d)
+		p.Up(nil)
+		d[lost].Fail()
+		s = again(t, d)
+		if b, e := s.LogRead(0, 3); s.Note() != 3 || string(b) != "log" || e != api.OK {
+			t.Error(lost, s.Note(), string(b), e)
+		}
+		reads(t, s, 1, 0, 1, "c")
+	}
+	p, d, s := fresh(t, api.Mirror, 2, 2048)
+	is(t, s.Commit(1), api.OK)
+	k, e := vdev.Import(d)
+	is(t, e, api.OK)
+	for cut := range 256*2 + 8 {
+		p.Cut(cut)
+		if s, e := store.Open(k); s != nil || e != api.ErrDown {
+			t.Fatal(cut, e)
+		}
+		p.Up(nil)
+	}
+	p.Cut(256*2 + 8)
+	if _, e := store.Open(k); e != api.OK {
+		t.Error(e)
+	}
+}
+
 func TestTrouble(t *testing.T) {
 	p, d, s := fresh(t, api.Mirror, 2, 2048)
 	s.Write(1, 0, bytes.Repeat([]byte{1}, 3000))
