@@ -373,6 +373,12 @@ func TestStreams(t *testing.T) {
 	if a := r.ask(q{Verb: api.VerbSend, Name: "tank", Item: "s", Many: 1}); a.Err != api.ErrNone {
 		t.Error(a)
 	}
+	r.errs(api.OK, q{Verb: api.VerbSnapshot, Name: "tank", Item: "all", Many: 1})
+	alone := r.ask(q{Verb: api.VerbSend, Name: "tank", Item: "all"})
+	deep := r.ask(q{Verb: api.VerbSend, Name: "tank", Item: "all", Many: 7})
+	if alone.Err != api.OK || deep.Err != api.OK || alone.Number >= deep.Number || alone.Number != len(alone.Data) {
+		t.Error(alone.Number, deep.Number)
+	}
 }
 
 func TestSessions(t *testing.T) {

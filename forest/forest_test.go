@@ -287,8 +287,11 @@ func TestClonePromote(t *testing.T) {
 		f.Snapshot("tank/a", fmt.Sprint("n", i), false)
 	}
 	f.Clone("tank/a", "n11", "tank/b")
+	f.Clone("tank/a", "n10", "tank/c")
 	f.Snapshot("tank/b", "x", false)
+	f.Snapshot("tank/c", "x", false)
 	is(t, f.Promote("tank/b"), api.ErrMany)
+	is(t, f.Promote("tank/c"), api.OK)
 }
 
 func TestMarksProps(t *testing.T) {

@@ -152,5 +152,5 @@ func (f *Forest) rooted(d api.Dataset) bool {
 		}
 		at = x.Dataset
 	}
-	return at.Origin == 0
+	return false
 }

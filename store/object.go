@@ -139,8 +139,7 @@ func (s *Store) Fork(from, to int) api.Errno {
 		return api.ErrNoSpace
 	}
 	other := *o
-	other.data = append([]api.Ptr{}, o.data...)
-	other.touched = maps.Clone(o.touched) // its blocks are never changed in place
+	other.touched = maps.Clone(o.touched) // its blocks, and all lists, are never changed in place
 	s.now[to] = &other
 	return api.OK
 }

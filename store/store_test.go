@@ -11,6 +11,7 @@ import (
 	"undercroft/api"
 	"undercroft/disk"
 	"undercroft/store"
+	"undercroft/tree"
 	"undercroft/vdev"
 )
 
@@ -353,6 +354,71 @@ func TestLastObject(t *testing.T) {
 		s = again(t, d)
 		reads(t, s, 1, 0, 1, "\x09")
 	}
+}
+
+// TestHoles has an object whose first blocks are noughts, and the greatest one.
+func TestHoles(t *testing.T) {
+	_, d, s := fresh(t, api.Mirror, 2, 6000)
+	is(t, s.Write(1, 40*1024+5, []byte("far")), api.OK)
+	is(t, s.Write(2, 65536, nil), api.OK)
+	is(t, s.Commit(1), api.OK)
+	for range 2 {
+		s = again(t, d)
+		reads(t, s, 1, 40*1024+3, 99, "\x00\x00far")
+		reads(t, s, 1, 17*1024, 2, "\x00\x00")
+		reads(t, s, 2, 65534, 99, "\x00\x00")
+		since(t, s, 1, 0, api.Span{At: 40 * 1024, Many: 8})
+		is(t, s.Write(1, 20*1024, []byte("mid")), api.OK)
+		is(t, s.Write(1, 20*1024, make([]byte, 3)), api.OK)
+		is(t, s.Commit(2), api.OK)
+	}
+	is(t, s.Write(1, 20*1024, []byte("mid")), api.OK)
+	is(t, s.Fork(1, 3), api.OK)
+	is(t, s.Truncate(1, 20*1024+1), api.OK)
+	is(t, s.Commit(3), api.OK)
+	s = again(t, d)
+	reads(t, s, 1, 20*1024, 99, "m")
+	reads(t, s, 3, 20*1024, 4, "mid\x00")
+	reads(t, s, 3, 40*1024+5, 99, "far")
+}
+
+// TestForms opens what is no table, and no tree.
+func TestForms(t *testing.T) {
+	_, _, k := pool(t, api.Mirror, 2, 2048)
+	txg := uint64(0)
+	open := func(l ...api.Ptr) {
+		t.Helper()
+		txg++
+		var b []byte
+		blocks, _ := tree.Pack(l)
+		for _, x := range blocks {
+			b = append(b, x...)
+		}
+		root, e := k.Write(0, 800, b, api.Fletcher4, txg)
+		is(t, e, api.OK)
+		is(t, k.Mark(api.Uber{Pool: 1, Txg: txg, Root: root}), api.OK)
+		if s, e := store.Open(k); s != nil || e != api.ErrTreeForm {
+			t.Error(e)
+		}
+	}
+	short, _ := k.Write(0, 8, []byte("short"), api.Fletcher4, 1)
+	ones, _ := k.Write(0, 16, bytes.Repeat([]byte{1}, 1024), api.Fletcher4, 1)
+	open(short)
+	open(ones)
+	open(slices.Repeat([]api.Ptr{ones}, 9)...)
+	slot := func(size int, root api.Ptr) api.Ptr {
+		b, e := tree.Table([]api.Slot{{Used: true, Size: size, Root: root}})
+		is(t, e, api.OK)
+		p, _ := k.Write(0, 24, append(b, make([]byte, 1024-len(b))...), api.Fletcher4, 1)
+		return p
+	}
+	leaf, _ := tree.Pack([]api.Ptr{ones, ones})
+	mid, _ := k.Write(0, 32, leaf[0], api.Fletcher4, 1)
+	up, _ := tree.Pack([]api.Ptr{mid})
+	root, _ := k.Write(0, 40, up[0], api.Fletcher4, 1)
+	open(slot(1024, root)) // two blocks, of which it has but one
+	open(slot(1500, root)) // the second one is too long
+	open(slot(1024, ones))
 }
 
 // TestSettled opens where one disk alone has the last group's uberblock, or the last of the log; then that one is lost.

@@ -201,6 +201,17 @@ func TestStrangers(t *testing.T) {
 	vdev.Create(7, mirror2(), a)
 	vdev.Create(8, mirror2(), b)
 	vdev.Create(7, []api.Top{{Kind: api.Mirror, Leaves: 3, Sectors: 400}}, c)
+	for _, other := range []*disk.Disk{b[0], c[0]} {
+		k, e := vdev.Import([]*disk.Disk{a[1], other})
+		is(t, e, api.OK)
+		before, _ := other.Read(0, 400)
+		k.Write(0, 0, []byte("x"), 1, 1)
+		k.LogWrite(0, []byte("x"))
+		after, _ := other.Read(0, 400)
+		if _, ok := k.Lacks(0, 0); !ok || !bytes.Equal(before, after) {
+			t.Error("a stranger is taken in")
+		}
+	}
 	k, e := vdev.Import([]*disk.Disk{a[1], b[0], c[0]})
 	is(t, e, api.OK)
 	is(t, k.Mark(api.Uber{Pool: 7, Txg: 4}), api.OK)
@@ -291,6 +302,10 @@ func TestReplace(t *testing.T) {
 	is(t, k.Replace(0, 0, n[0], 0), api.OK)
 	if _, ok := k.Lacks(0, 0); ok {
 		t.Error("lacks")
+	}
+	is(t, k.Replace(0, 0, n[0], 1), api.OK)
+	if b, ok := k.Lacks(0, 0); !ok || b != (api.Births{From: 1, To: 1}) {
+		t.Error(b)
 	}
 	is(t, k.Replace(0, 0, n[0], 4), api.OK)
 	if b, ok := k.Lacks(0, 0); !ok || b != (api.Births{From: 1, To: 4}) {
