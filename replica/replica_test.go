@@ -113,6 +113,30 @@ func TestNew(t *testing.T) {
 	stands(t, r, api.JobGoes, 0, api.OK)
 }
 
+func TestExample(t *testing.T) {
+	r, e := replica.New(api.Job{Session: 1, First: 1, Anew: true})
+	is(t, e, api.OK)
+	next := func(verb, who, id int) {
+		t.Helper()
+		if q, w, ok := r.Next(); !ok || q.Verb != verb || w != who || q.ID != id || q.Session != 1 || q.At != 0 {
+			t.Error(q, w, ok)
+		}
+	}
+	next(api.VerbDrop, 1, 1)
+	r.Hear(1, api.Reply{Session: 1, ID: 1, Err: api.ErrToken})
+	next(api.VerbTake, 1, 2)
+	r.Hear(0, api.Reply{Session: 1, ID: 2})
+	next(api.VerbTake, 1, 2)
+	r.Hear(1, api.Reply{Session: 1, ID: 2})
+	next(api.VerbToken, 1, 3)
+	r.Hear(1, api.Reply{Session: 1, ID: 3, List: []string{"0", "0", strings.Repeat("0", 64), "open"}})
+	next(api.VerbSend, 0, 4)
+	r.Hear(0, api.Reply{Session: 1, ID: 4})
+	next(api.VerbToken, 1, 5)
+	r.Hear(1, api.Reply{Session: 1, ID: 5, Err: api.ErrName})
+	stands(t, r, api.JobFailed, 0, api.ErrName)
+}
+
 func TestSteps(t *testing.T) {
 	r := begun(t, true)
 	for _, c := range []struct {
