@@ -199,8 +199,9 @@ func TestResilver(t *testing.T) {
 			is(t, r.s.LogWrite(5, []byte("log")), api.OK)
 			r.s.LogFlush()
 			want := r.content(t)
-			if c, h, e := heal.Resilver(r.s, top, place, api.Cursor{Top: 5}, 1); c != (api.Cursor{Done: true}) || h != (api.Healed{}) || e != api.OK {
-				t.Error(c, h, e)
+			before := r.p.Writes()
+			if c, h, e := heal.Resilver(r.s, top, place, api.Cursor{Top: 5}, 1); c != (api.Cursor{Done: true}) || h != (api.Healed{}) || e != api.OK || r.p.Writes() != before {
+				t.Error(c, h, e, "or written")
 			}
 			r.d[bad].Fail()
 			r.d[bad].Replace()

@@ -120,6 +120,10 @@ func TestOpen(t *testing.T) {
 	if x, e := leaf.Open(small); x != nil || e != api.ErrLeafLabel {
 		t.Error(e)
 	}
+	tiny, _ := disk.New(p, 5)
+	if x, e := leaf.Open(tiny); x != nil || e != api.ErrLeafLabel {
+		t.Error(e)
+	}
 	d.Fail()
 	if x, e := leaf.Open(d); x != nil || e != api.ErrDiskFailed {
 		t.Error(e)
