@@ -263,6 +263,27 @@ func TestLaid(t *testing.T) {
 	try(whole, api.OK)
 }
 
+// TestStrangeLog opens where records stand in the log that no appliance has written.
+func TestStrangeLog(t *testing.T) {
+	for _, q := range []api.Request{{Session: 1, ID: 1, Verb: 99}, {Session: 1, ID: 1, Verb: api.VerbDatasets}, {Session: 1, ID: 1, Verb: api.VerbCreate, Name: "tank/a"}, {}} {
+		r := fresh(t, 2048)
+		l, e := ilog.New(0)
+		is(t, e, api.OK)
+		b, _ := frame.Request(q)
+		at, p, _ := l.Append(b)
+		is(t, r.st.LogWrite(at, p), api.OK)
+		want := api.ErrState
+		if q.Verb == api.VerbCreate {
+			want = api.OK
+		}
+		if a, e := appliance.Open(r.st); e != want || (a == nil) != (e != api.OK) {
+			t.Error(q, e)
+		} else if a != nil && len(a.Machine().Grove.Datasets) != 2 {
+			t.Error(a.Machine())
+		}
+	}
+}
+
 // TestMany lists as many names as a reply may have, and one more.
 func TestMany(t *testing.T) {
 	r := fresh(t, 8192)
