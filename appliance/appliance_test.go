@@ -391,6 +391,9 @@ func TestStreams(t *testing.T) {
 	}
 	r.errs(api.ErrNone, q{Verb: api.VerbSend, Name: "tank/1", Item: "x", At: 1})
 	r.errs(api.ErrBase, q{Verb: api.VerbSend, Name: "tank/1", Item: "s", Other: "x"})
+	r.errs(api.ErrBase, q{Verb: api.VerbSend, Name: "tank/1", Item: "s", Other: "@A"})
+	r.errs(api.ErrBase, q{Verb: api.VerbSend, Name: "tank/1", Item: "s", Other: "#"})
+	r.errs(api.ErrNone, q{Verb: api.VerbSend, Name: "tank/1", Item: "s", Other: "#m"})
 	if a := r.ask(q{Verb: api.VerbSend, Name: "tank", Item: "s", Many: 1}); a.Err != api.ErrNone {
 		t.Error(a)
 	}

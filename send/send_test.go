@@ -136,6 +136,48 @@ func TestErrors(t *testing.T) {
 	}
 }
 
+// TestForm has bases that are of the form, though none is there, and such that are not.
+func TestForm(t *testing.T) {
+	f := fresh(t)
+	f.Snapshot("tank/a", "0", false) // names of one sign, and such with all signs
+	f.Snapshot("tank/a", "9a.b_c-d", false)
+	f.Bookmark("tank/a", "0", "9a.b_c-d")
+	f.Snapshot("tank/a", "u", false)
+	for _, base := range []string{"", "@0", "@9a.b_c-d", "#9a.b_c-d", "#m"} {
+		_, e := send.Records(f, "tank/a", "u", base, false)
+		is(t, e, api.OK)
+	}
+	before := f.State()
+	p24 := strings.Repeat("a", api.MaxPart)
+	asks := func(name, snap, base string, want api.Errno) {
+		t.Helper()
+		for _, deep := range []bool{false, true} {
+			l, e := send.Records(f, name, snap, base, deep)
+			b, e2 := send.Stream(f, name, snap, base, deep)
+			if e != want || e2 != want || len(l) > 0 || len(b) > 0 {
+				t.Errorf("%q %v: %d, %d, not %d", base, deep, e, e2, want)
+			}
+		}
+	}
+	for _, name := range []string{"n", "1", "n.", "n_", "n-", "m0", p24, "0" + p24[1:]} {
+		asks("tank/a", "u", "@"+name, api.ErrNone)
+		asks("tank/a", "u", "#"+name, api.ErrNone)
+	}
+	for _, name := range []string{"", "A", "aA", "-x", ".x", "_x", "s/t", "tank/a", "/", "a b", " s", "s ", "@s", "#m", "s@", "m#", "é", "s\x00", "\xff", p24 + "a", strings.Repeat("a", 1<<16)} {
+		asks("tank/a", "u", "@"+name, api.ErrBase)
+		asks("tank/a", "u", "#"+name, api.ErrBase)
+		asks("tank/x", "u", "@"+name, api.ErrNone) // what is to be sent is looked for first
+		asks("tank/a", "x", "#"+name, api.ErrNone)
+	}
+	for _, base := range []string{"s", "m", "?", "-", " ", " @s", "0", "é", "\x00", "!s", "$s", "A@s", "/@s"} {
+		asks("tank/a", "u", base, api.ErrBase)
+		asks("tank/x", "u", base, api.ErrNone)
+	}
+	if !reflect.DeepEqual(f.State(), before) {
+		t.Error("changed")
+	}
+}
+
 func TestDeep(t *testing.T) {
 	f := fresh(t)
 	f.Clone("tank/a", "s", "tank/a-c") // ahead of tank/a/b by names
